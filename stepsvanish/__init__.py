@@ -1,0 +1,1 @@
+"""Stepsvanish: maps between finite groups whose repeated differences vanish."""

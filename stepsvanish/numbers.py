@@ -1,0 +1,31 @@
+"""Prime numbers and prime factors of small integers."""
+
+
+def factored(number):
+    """The prime factors of an integer of at least 1, as tuples (prime, exponent)."""
+    factors = []
+    rest = number
+    divisor = 2
+    while divisor * divisor <= rest:
+        exponent = 0
+        while rest % divisor == 0:
+            rest = rest // divisor
+            exponent = exponent + 1
+        if exponent > 0:
+            factors.append((divisor, exponent))
+        divisor = divisor + 1
+    if rest > 1:
+        factors.append((rest, 1))
+    return factors
+
+
+def is_prime(number):
+    """True if the integer is a prime number."""
+    if number < 2:
+        return False
+    divisor = 2
+    while divisor * divisor <= number:
+        if number % divisor == 0:
+            return False
+        divisor = divisor + 1
+    return True

@@ -1,0 +1,248 @@
+"""Checks of the rules of the Python subset that can be told from the syntax."""
+
+import ast
+import builtins
+import re
+import unittest
+from pathlib import Path
+
+PACKAGE = Path(__file__).resolve().parent.parent / "stepsvanish"
+
+LIBRARY = {
+    "math": {"gcd", "lcm", "isqrt", "comb", "perm", "factorial"},
+    "itertools": {"product", "combinations", "permutations"},
+}
+
+BUILTINS = set(
+    "len range enumerate zip min max sum abs sorted reversed int str bool list tuple "
+    "dict set isinstance ord repr any all divmod iter super ValueError".split()
+)
+
+SPECIAL = set("init eq call iter len add sub mul rmul neg contains".split())
+
+BARRED = (
+    "type typing enum Enum namedtuple NamedTuple dataclass overload contextmanager "
+    "abstractmethod ABC Generic Protocol elements register open input law mro"
+).split()
+
+STATEMENTS = (
+    ast.Global,
+    ast.Nonlocal,
+    ast.AsyncFunctionDef,
+    ast.AsyncFor,
+    ast.AsyncWith,
+    ast.Await,
+    ast.GeneratorExp,
+    ast.Div,
+    ast.Pow,
+    ast.Lambda,
+)
+
+
+def trees():
+    for path in sorted(PACKAGE.glob("*.py")):
+        yield path, ast.parse(path.read_text(encoding="utf-8"))
+
+
+def bound_names(tree):
+    for node in ast.walk(tree):
+        if isinstance(node, (ast.FunctionDef, ast.ClassDef)):
+            yield node.name
+        elif isinstance(node, ast.arg):
+            yield node.arg
+        elif isinstance(node, ast.Name) and isinstance(node.ctx, ast.Store):
+            yield node.id
+
+
+class LanguageTest(unittest.TestCase):
+    def test_the_folder_contains_only_python_files(self):
+        names = [path.name for path in PACKAGE.iterdir() if path.name != "__pycache__"]
+        self.assertIn("__init__.py", names)
+        for name in names:
+            self.assertRegex(name, r"^[a-z_]+\.py$")
+
+    def test_sizes_and_characters(self):
+        for path, tree in trees():
+            text = path.read_text(encoding="utf-8")
+            self.assertRegex(text, r"\A[ -~\n]*\Z", path)
+            lines = text.splitlines()
+            self.assertLessEqual(len(lines), 399, path)
+            for line in lines:
+                self.assertLessEqual(len(line), 120, path)
+            for node in ast.walk(tree):
+                if isinstance(node, ast.FunctionDef):
+                    self.assertLessEqual(node.end_lineno - node.lineno + 1, 40, node.name)
+
+    def test_imports(self):
+        later = {}
+        for path, tree in trees():
+            used = set()
+            for node in ast.walk(tree):
+                self.assertNotIsInstance(node, ast.Import)
+                if not isinstance(node, ast.ImportFrom):
+                    continue
+                self.assertEqual(node.level, 0)
+                self.assertIn(node, tree.body)
+                self.assertTrue(all(alias.asname is None for alias in node.names))
+                if node.module in LIBRARY:
+                    names = {alias.name for alias in node.names}
+                    self.assertLessEqual(names, LIBRARY[node.module])
+                else:
+                    self.assertRegex(node.module, r"^stepsvanish\.[a-z]+$")
+                    used.add(node.module.split(".")[1])
+                    self.check_names_are_defined_there(node)
+            later[path.stem] = used
+        # Take away files that import nothing any more; a circle would remain.
+        while later:
+            free = [name for name, used in later.items() if not used & set(later)]
+            self.assertTrue(free, later)
+            for name in free:
+                del later[name]
+
+    def check_names_are_defined_there(self, node):
+        path = PACKAGE / (node.module.split(".")[1] + ".py")
+        tree = ast.parse(path.read_text(encoding="utf-8"))
+        defined = {part.name for part in tree.body if hasattr(part, "name")}
+        for part in tree.body:
+            if isinstance(part, ast.Assign):
+                defined.add(part.targets[0].id)
+        for alias in node.names:
+            self.assertIn(alias.name, defined)
+
+    def test_no_name_has_another_meaning(self):
+        for path, tree in trees():
+            taken = set()
+            for node in tree.body:
+                if isinstance(node, ast.ImportFrom):
+                    taken |= {alias.name for alias in node.names}
+                elif isinstance(node, ast.ClassDef):
+                    taken.add(node.name)
+            tops = [node.name for node in tree.body if hasattr(node, "name")]
+            self.assertEqual(len(tops), len(set(tops)), path)
+            for name in bound_names(tree):
+                if name not in tops:
+                    self.assertNotIn(name, taken, path)
+                if name == f"__{name[2:-2]}__":
+                    self.assertIn(name[2:-2], SPECIAL, path)
+                else:
+                    self.assertFalse(hasattr(builtins, name), (path, name))
+                    self.assertRegex(name, r"^(_?[A-Za-z][A-Za-z0-9_]*|_)$", path)
+
+    def test_only_listed_builtins_are_used(self):
+        for path, tree in trees():
+            own = set(bound_names(tree))
+            for node in ast.walk(tree):
+                if isinstance(node, ast.Name) and node.id not in own:
+                    if hasattr(builtins, node.id):
+                        allowed = node.id in BUILTINS or node.id == "staticmethod"
+                        self.assertTrue(allowed, (path, node.id))
+
+    def test_barred_words(self):
+        for path, tree in trees():
+            for node in ast.walk(tree):
+                if isinstance(node, (ast.FunctionDef, ast.ClassDef, ast.Module)):
+                    body = node.body
+                    if body and isinstance(body[0], ast.Expr):
+                        # Docstrings may contain any word.
+                        body[0].value = ast.Constant("")
+            text = ast.unparse(tree)
+            for word in BARRED:
+                self.assertIsNone(re.search(rf"\b{word}\b", text), (path, word))
+
+    def test_statements_and_expressions(self):
+        for path, tree in trees():
+            for node in ast.walk(tree):
+                self.assertNotIsInstance(node, STATEMENTS, path)
+                if isinstance(node, (ast.FunctionDef, ast.ClassDef)):
+                    decorators = [ast.unparse(part) for part in node.decorator_list]
+                    self.assertIn(decorators, ([], ["staticmethod"]))
+                if isinstance(node, ast.Constant):
+                    self.assertNotIsInstance(node.value, (float, complex, bytes))
+                    if isinstance(node.value, str):
+                        self.assertNotIn("%", node.value)
+                if isinstance(node, ast.Compare):
+                    for sign, side in zip(node.ops, node.comparators):
+                        if isinstance(sign, (ast.Is, ast.IsNot)):
+                            self.assertIn(ast.unparse(side), ("None", "True", "False"))
+
+    def test_a_raise_creates_its_error(self):
+        for path, tree in trees():
+            for node in ast.walk(tree):
+                if isinstance(node, ast.Raise):
+                    self.assertIsInstance(node.exc, ast.Call, path)
+                    self.assertIsInstance(node.exc.func, ast.Name, path)
+
+
+INTERFACE = {
+    "numbers": {"factored": ["number"], "is_prime": ["number"]},
+    "groups": {
+        "Group": ["table"],
+        "Group.multiply": ["left", "right"],
+        "Group.inverse": ["element"],
+        "Group.power": ["element", "exponent"],
+        "Group.order_of": ["element"],
+        "Group.generated": ["members"],
+        "Group.generators": [],
+        "Group.is_commutative": [],
+        "Group.__eq__": ["other"],
+    },
+    "targets": {
+        "Target": ["moduli"],
+        "Target.is_value": ["value"],
+        "Target.plus": ["left", "right"],
+        "Target.minus": ["left", "right"],
+        "Target.times": ["factor", "value"],
+        "Target.all_values": [],
+        "Target.position": ["value"],
+        "Target.value_at": ["position"],
+        "Target.as_group": [],
+        "Target.__eq__": ["other"],
+    },
+    "maps": {
+        "GroupMap": ["group", "target", "images"],
+        "GroupMap.constant": ["group", "target", "value"],
+        "GroupMap.from_parts": ["group", "target", "parts"],
+        "GroupMap.__call__": ["element"],
+        "GroupMap.__add__": ["other"],
+        "GroupMap.__sub__": ["other"],
+        "GroupMap.__neg__": [],
+        "GroupMap.__mul__": ["factor"],
+        "GroupMap.__eq__": ["other"],
+        "GroupMap.__iter__": [],
+        "GroupMap.part": ["at"],
+        "GroupMap.is_zero": [],
+        "GroupMap.step": ["element"],
+        "GroupMap.left_step": ["element"],
+        "GroupMap.translated": ["element"],
+        "GroupMap.evaluate": ["coefficients"],
+    },
+}
+
+
+class InterfaceTest(unittest.TestCase):
+    def test_names_and_arguments(self):
+        for module, wanted in INTERFACE.items():
+            tree = ast.parse((PACKAGE / f"{module}.py").read_text(encoding="utf-8"))
+            found = {}
+            for node in tree.body:
+                if isinstance(node, ast.FunctionDef):
+                    found[node.name] = self.arguments(node, False)
+                elif isinstance(node, ast.ClassDef):
+                    for part in node.body:
+                        if isinstance(part, ast.FunctionDef):
+                            name = f"{node.name}.{part.name}"
+                            found[name.replace(".__init__", "")] = self.arguments(part, True)
+            for name, arguments in wanted.items():
+                self.assertEqual(found.get(name), arguments, (module, name))
+
+    def arguments(self, node, in_class):
+        names = [part.arg for part in node.args.args]
+        if in_class and not node.decorator_list:
+            names = names[1:]
+        if node.args.vararg:
+            names.append("*" + node.args.vararg.arg)
+        return names + ["=" + part.arg for part in node.args.kwonlyargs]
+
+
+if __name__ == "__main__":
+    unittest.main()

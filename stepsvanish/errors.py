@@ -56,7 +56,6 @@ class InvalidText(StepError):
     """
 
     def __init__(self, line):
-        super().__init__("a line of the text is not as it must be")
         self.line = line
 
 
@@ -67,7 +66,6 @@ class Conflict(StepError):
     """
 
     def __init__(self, component, coefficients):
-        super().__init__("no map agrees with the images and the bound")
         self.component = component
         self.coefficients = list(coefficients)
 

@@ -1,6 +1,48 @@
-"""Tables of groups for the tests, made without the program's own builders."""
+"""What several tests share: tables of groups, made without the program's own
+builders, plain calculations with them, and a check of errors."""
 
+import unittest
 from itertools import permutations as arrangements
+
+from stepsvanish.errors import StepError
+
+# Integers that are elements of no group.
+WRONG = (-1, -(10**5000), 10**5000)
+
+
+class RaisesTest(unittest.TestCase):
+    def refused(self, error, call, *arguments, **more):
+        """The call raises an error of exactly this class."""
+        with self.assertRaises(StepError) as caught:
+            call(*arguments, **more)
+        self.assertIs(caught.exception.__class__, error)
+
+
+def closed(table, members):
+    """The elements of the subgroup that the members generate, ascending."""
+    found = {0, *members}
+    while True:
+        more = found | {table[x][y] for x in found for y in found}
+        if more == found:
+            return sorted(found)
+        found = more
+
+
+def times(table, first, second):
+    """The coefficients of the product of two formal sums."""
+    result = [0] * len(table)
+    for x, a in enumerate(first):
+        for y, b in enumerate(second):
+            result[table[x][y]] += a * b
+    return result
+
+
+def minus_identity(table, element):
+    """The coefficients of the formal sum "element minus identity"."""
+    result = [0] * len(table)
+    result[element] += 1
+    result[0] -= 1
+    return result
 
 
 def table_of(members, times):

@@ -2,7 +2,7 @@ import unittest
 from itertools import permutations as arrangements
 from itertools import product
 
-from samples import LARGE, SMALL, cyclic_table, product_table, symmetric_table
+from samples import LARGE, SMALL, WRONG, RaisesTest, cyclic_table, product_table, symmetric_table
 from stepsvanish.building import (
     cyclic,
     direct_product,
@@ -18,12 +18,10 @@ from stepsvanish.errors import (
     LimitExceeded,
     NotNormal,
     NotSubgroup,
-    StepError,
 )
 from stepsvanish.groups import Group
 from stepsvanish.subgroups import is_normal, left_cosets
 
-WRONG = (-1, -(10**5000), 10**5000)
 
 
 def turn(points):
@@ -32,13 +30,6 @@ def turn(points):
 
 def flip(points):
     return [(-i) % points for i in range(points)]
-
-
-class RaisesTest(unittest.TestCase):
-    def refused(self, error, call, *arguments, **more):
-        with self.assertRaises(StepError) as caught:
-            call(*arguments, **more)
-        self.assertIs(caught.exception.__class__, error)
 
 
 class CyclicTest(RaisesTest):

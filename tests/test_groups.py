@@ -1,27 +1,15 @@
 import unittest
 
-from samples import LARGE, LOOP, SMALL, cyclic_table
-from stepsvanish.errors import InvalidElement, InvalidGroup, LimitExceeded, StepError
+from samples import LARGE, LOOP, SMALL, WRONG, RaisesTest, closed, cyclic_table
+from stepsvanish.errors import InvalidElement, InvalidGroup, LimitExceeded
 from stepsvanish.groups import Group
 
 ALL = {**SMALL, **LARGE}
-BAD = (-1, -(10**5000), 10**5000)
 
 
-def brute_subgroup(table, members):
-    found = {0, *members}
-    while True:
-        more = found | {table[x][y] for x in found for y in found}
-        if more == found:
-            return sorted(found)
-        found = more
-
-
-class TableTest(unittest.TestCase):
-    def refused(self, table):
-        with self.assertRaises(StepError) as caught:
-            Group(table)
-        self.assertIs(caught.exception.__class__, InvalidGroup)
+class TableTest(RaisesTest):
+    def no_group(self, table):
+        self.refused(InvalidGroup, Group, table)
 
     def test_attributes(self):
         for table in ALL.values():
@@ -48,18 +36,18 @@ class TableTest(unittest.TestCase):
         self.assertEqual(table, cyclic_table(4))
 
     def test_no_rows(self):
-        self.refused([])
+        self.no_group([])
 
     def test_a_row_of_a_wrong_length(self):
-        self.refused([[]])
-        self.refused([[0, 1]])
+        self.no_group([[]])
+        self.no_group([[0, 1]])
         for at in range(3):
             short = cyclic_table(3)
             short[at] = short[at][:2]
-            self.refused(short)
+            self.no_group(short)
             long = cyclic_table(3)
             long[at] = long[at] + [0]
-            self.refused(long)
+            self.no_group(long)
 
     def test_an_entry_that_is_no_element(self):
         for worth in (-1, -2, 3, 10**5000, -(10**5000)):
@@ -67,31 +55,31 @@ class TableTest(unittest.TestCase):
                 for y in range(3):
                     table = cyclic_table(3)
                     table[x][y] = worth
-                    self.refused(table)
-        self.refused([[1]])
+                    self.no_group(table)
+        self.no_group([[1]])
 
     def test_no_identity(self):
         # Every other condition holds: the rows are those of a group in another order.
-        self.refused([[1, 0], [0, 1]])
+        self.no_group([[1, 0], [0, 1]])
         # The products x0 are right, 0x is not.
-        self.refused([[0, 0], [1, 1]])
+        self.no_group([[0, 0], [1, 1]])
         # The products 0x are right, x0 is not.
-        self.refused([[0, 1], [0, 1]])
-        self.refused([[0, 1, 2], [1, 2, 0], [0, 0, 1]])
+        self.no_group([[0, 1], [0, 1]])
+        self.no_group([[0, 1, 2], [1, 2, 0], [0, 0, 1]])
 
     def test_no_inverse(self):
         # Associative, with identity: products of zeros and ones.
-        self.refused([[0, 1], [1, 1]])
+        self.no_group([[0, 1], [1, 1]])
         # The greater of two integers.
-        self.refused([[max(x, y) for y in range(4)] for x in range(4)])
+        self.no_group([[max(x, y) for y in range(4)] for x in range(4)])
 
     def test_not_associative(self):
-        self.refused(LOOP)
+        self.no_group(LOOP)
 
     def test_a_single_wrong_product_in_a_large_table(self):
         table = cyclic_table(32)
         table[31][30], table[31][29] = table[31][29], table[31][30]
-        self.refused(table)
+        self.no_group(table)
 
     def test_more_rows_than_allowed(self):
         for table in (
@@ -101,8 +89,7 @@ class TableTest(unittest.TestCase):
             [[-1]] * 33,
             [[0] * 33] * 33,
         ):
-            with self.assertRaises(LimitExceeded):
-                Group(table)
+            self.refused(LimitExceeded, Group, table)
         self.assertEqual(Group(cyclic_table(32)).order, 32)
 
 
@@ -146,9 +133,9 @@ class CalculationTest(unittest.TestCase):
             self.assertEqual(group.generated([]), [0])
             self.assertEqual(group.generated([0]), [0])
             for x in range(group.order):
-                self.assertEqual(group.generated([x]), brute_subgroup(table, [x]))
+                self.assertEqual(group.generated([x]), closed(table, [x]))
                 y = (3 * x + 1) % group.order
-                expected = brute_subgroup(table, [x, y])
+                expected = closed(table, [x, y])
                 self.assertEqual(group.generated([x, y]), expected)
                 self.assertEqual(group.generated([y, x, y, 0, x]), expected)
 
@@ -157,7 +144,7 @@ class CalculationTest(unittest.TestCase):
             group = Group(table)
             chosen = []
             for x in range(len(table)):
-                if x not in brute_subgroup(table, chosen):
+                if x not in closed(table, chosen):
                     chosen.append(x)
             self.assertEqual(group.generators(), chosen)
             self.assertNotIn(0, chosen)
@@ -213,11 +200,11 @@ class CalculationTest(unittest.TestCase):
         self.assertEqual(members, [5, 1, 5, 0])
 
 
-class WrongMembersTest(unittest.TestCase):
+class WrongMembersTest(RaisesTest):
     def test_each_method_refuses_what_is_no_element(self):
         for table in ([[0]], SMALL["symmetric"], LARGE["cyclic"]):
             group = Group(table)
-            for bad in (*BAD, group.order, group.order + 1, -group.order):
+            for bad in (*WRONG, group.order, group.order + 1, -group.order):
                 for call in (
                     lambda: group.multiply(bad, 0),
                     lambda: group.multiply(0, bad),
@@ -231,9 +218,7 @@ class WrongMembersTest(unittest.TestCase):
                     lambda: group.generated([bad, 0]),
                     lambda: group.generated([0, bad, 0]),
                 ):
-                    with self.assertRaises(StepError) as caught:
-                        call()
-                    self.assertIs(caught.exception.__class__, InvalidElement)
+                    self.refused(InvalidElement, call)
 
 
 if __name__ == "__main__":

@@ -15,7 +15,7 @@ LIBRARY = {
 
 BUILTINS = set(
     "len range enumerate zip min max sum abs sorted reversed int str bool list tuple "
-    "dict set isinstance ord repr any all divmod iter super ValueError".split()
+    "dict set isinstance ord repr any all divmod iter ValueError".split()
 )
 
 SPECIAL = set("init eq call iter len add sub mul rmul neg contains".split())

@@ -1,12 +1,12 @@
 import unittest
 from itertools import product
 
+from samples import RaisesTest
 from stepsvanish.errors import (
     InvalidIndex,
     InvalidModulus,
     InvalidVector,
     Mismatch,
-    StepError,
 )
 from stepsvanish.lattices import Lattice
 
@@ -45,12 +45,7 @@ def residues(vectors, width, modulus):
     return found
 
 
-class RaisesTest(unittest.TestCase):
-    def refused(self, error, call, *arguments):
-        with self.assertRaises(StepError) as caught:
-            call(*arguments)
-        self.assertIs(caught.exception.__class__, error)
-
+class RowsTest(RaisesTest):
     def check_rows(self, lattice, members, modulus):
         """The conditions of point 14, against all members below the modulus."""
         width = lattice.width
@@ -68,7 +63,7 @@ class RaisesTest(unittest.TestCase):
                 self.assertLess(row[before], lattice.rows[before][before])
 
 
-class LatticeTest(RaisesTest):
+class LatticeTest(RowsTest):
     def test_attributes(self):
         lattice = Lattice([[1, 2, 3]], 3, 4)
         self.assertEqual((lattice.width, lattice.modulus), (3, 4))

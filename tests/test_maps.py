@@ -1,13 +1,12 @@
 import unittest
 
-from samples import LARGE, SMALL, cyclic_table
+from samples import LARGE, SMALL, RaisesTest, cyclic_table
 from stepsvanish.errors import (
     InvalidElement,
     InvalidIndex,
     InvalidValue,
     InvalidVector,
     Mismatch,
-    StepError,
 )
 from stepsvanish.groups import Group
 from stepsvanish.maps import GroupMap
@@ -33,13 +32,6 @@ def sample(table, moduli, salt):
 def samples():
     tables = [*SMALL.values(), LARGE["four points"], LARGE["sixteen corners"]]
     return [sample(table, moduli, 2) for table in tables for moduli in TARGETS]
-
-
-class RaisesTest(unittest.TestCase):
-    def refused(self, error, call, *arguments):
-        with self.assertRaises(StepError) as caught:
-            call(*arguments)
-        self.assertIs(caught.exception.__class__, error)
 
 
 class CreationTest(RaisesTest):

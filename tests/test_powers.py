@@ -1,8 +1,8 @@
 import unittest
 from itertools import product
 
-from samples import LARGE, SMALL, cyclic_table
-from stepsvanish.errors import InvalidElement, InvalidModulus, InvalidVector, StepError
+from samples import LARGE, SMALL, RaisesTest, cyclic_table, minus_identity, times
+from stepsvanish.errors import InvalidElement, InvalidModulus, InvalidVector
 from stepsvanish.groups import Group
 from stepsvanish.lattices import Lattice
 from stepsvanish.maps import GroupMap
@@ -10,21 +10,6 @@ from stepsvanish.powers import power_chain, power_lattice, shifted
 from stepsvanish.targets import Target
 
 HUGE = 10**30
-
-
-def times(table, first, second):
-    result = [0] * len(table)
-    for x, a in enumerate(first):
-        for y, b in enumerate(second):
-            result[table[x][y]] += a * b
-    return result
-
-
-def minus_identity(table, element):
-    result = [0] * len(table)
-    result[element] += 1
-    result[0] -= 1
-    return result
 
 
 def unit(order, at):
@@ -60,13 +45,6 @@ def differences_vanish(f, count):
             kept[g.images] = g
         found = list(kept.values())
     return all(g.is_zero() for g in found)
-
-
-class RaisesTest(unittest.TestCase):
-    def refused(self, error, call, *arguments):
-        with self.assertRaises(StepError) as caught:
-            call(*arguments)
-        self.assertIs(caught.exception.__class__, error)
 
 
 class ShiftedTest(RaisesTest):

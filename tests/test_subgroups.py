@@ -1,8 +1,8 @@
 import unittest
 from itertools import combinations
 
-from samples import LARGE, SMALL, cyclic_table
-from stepsvanish.errors import InvalidElement, NotSubgroup, StepError
+from samples import LARGE, SMALL, WRONG, RaisesTest, closed, cyclic_table
+from stepsvanish.errors import InvalidElement, NotSubgroup
 from stepsvanish.groups import Group
 from stepsvanish.powers import power_lattice
 from stepsvanish.subgroups import (
@@ -16,20 +16,10 @@ from stepsvanish.subgroups import (
 )
 
 ALL = {**SMALL, **LARGE}
-WRONG = (-1, -(10**5000), 10**5000)
 
 
 def inverse(table, x):
     return table[x].index(0)
-
-
-def closed(table, members):
-    found = {0, *members}
-    while True:
-        more = found | {table[x][y] for x in found for y in found}
-        if more == found:
-            return sorted(found)
-        found = more
 
 
 def conjugate_closed(table, members):
@@ -50,13 +40,6 @@ def smallest_normal(table, members):
 
 def commutator(table, x, y):
     return table[table[inverse(table, x)][inverse(table, y)]][table[x][y]]
-
-
-class RaisesTest(unittest.TestCase):
-    def refused(self, error, call, *arguments):
-        with self.assertRaises(StepError) as caught:
-            call(*arguments)
-        self.assertIs(caught.exception.__class__, error)
 
 
 class SubgroupTest(RaisesTest):

@@ -1,12 +1,11 @@
 import unittest
 
-from samples import LARGE, SMALL, cyclic_table
+from samples import LARGE, SMALL, WRONG, RaisesTest, cyclic_table, minus_identity, times
 from stepsvanish.errors import (
     InvalidElement,
     InvalidModulus,
     InvalidVector,
     Mismatch,
-    StepError,
 )
 from stepsvanish.groups import Group
 from stepsvanish.powers import power_chain, power_lattice
@@ -14,34 +13,11 @@ from stepsvanish.sums import FormalSum, depth, difference_product
 
 BIG = 10**50 + 3
 TABLES = (*SMALL.values(), LARGE["four points"])
-WRONG = (-1, -(10**5000), 10**5000)
 
 
 def sample(table, salt):
     coefficients = [(x * salt + x * x) % 7 - 3 for x in range(len(table))]
     return FormalSum(Group(table), coefficients)
-
-
-def times(table, first, second):
-    result = [0] * len(table)
-    for x, a in enumerate(first):
-        for y, b in enumerate(second):
-            result[table[x][y]] += a * b
-    return tuple(result)
-
-
-def minus_identity(table, element):
-    result = [0] * len(table)
-    result[element] += 1
-    result[0] -= 1
-    return result
-
-
-class RaisesTest(unittest.TestCase):
-    def refused(self, error, call, *arguments):
-        with self.assertRaises(StepError) as caught:
-            call(*arguments)
-        self.assertIs(caught.exception.__class__, error)
 
 
 class FormalSumTest(RaisesTest):
@@ -93,8 +69,10 @@ class FormalSumTest(RaisesTest):
     def test_products(self):
         for table in TABLES:
             a, b = sample(table, 2), sample(table, 3)
-            self.assertEqual((a * b).coefficients, times(table, a.coefficients, b.coefficients))
-            self.assertEqual((b * a).coefficients, times(table, b.coefficients, a.coefficients))
+            expected = times(table, a.coefficients, b.coefficients)
+            self.assertEqual((a * b).coefficients, tuple(expected))
+            expected = times(table, b.coefficients, a.coefficients)
+            self.assertEqual((b * a).coefficients, tuple(expected))
             self.assertEqual((a * b).augmentation(), a.augmentation() * b.augmentation())
             identity = FormalSum.element(a.group, 0)
             self.assertTrue(a * identity == a and identity * a == a)
@@ -151,13 +129,13 @@ class DifferenceProductTest(RaisesTest):
                 [last, 0, middle],
             ):
                 kept = list(members)
-                expected = tuple([1] + [0] * last)
+                expected = [1] + [0] * last
                 for member in members:
                     expected = times(table, expected, minus_identity(table, member))
                 result = difference_product(group, members)
                 self.assertIs(result.__class__, FormalSum)
                 self.assertTrue(result.group == group)
-                self.assertEqual(result.coefficients, expected)
+                self.assertEqual(result.coefficients, tuple(expected))
                 self.assertEqual(members, kept)
 
     def test_known_products(self):

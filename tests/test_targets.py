@@ -2,12 +2,12 @@ import unittest
 from itertools import product
 from math import lcm
 
+from samples import RaisesTest
 from stepsvanish.errors import (
     InvalidIndex,
     InvalidTarget,
     InvalidValue,
     LimitExceeded,
-    StepError,
 )
 from stepsvanish.groups import Group
 from stepsvanish.targets import Target
@@ -30,12 +30,7 @@ LISTS = [
 ]
 
 
-class TargetTest(unittest.TestCase):
-    def refused(self, moduli, error):
-        with self.assertRaises(StepError) as caught:
-            Target(moduli)
-        self.assertIs(caught.exception.__class__, error)
-
+class TargetTest(RaisesTest):
     def test_attributes(self):
         for moduli in LISTS:
             target = Target(moduli)
@@ -73,21 +68,21 @@ class TargetTest(unittest.TestCase):
 
     def test_a_modulus_below_two(self):
         for worth in (1, 0, -1, -2, -(10**5000)):
-            self.refused([worth], InvalidTarget)
-            self.refused([worth, 2, 3], InvalidTarget)
-            self.refused([2, worth, 3], InvalidTarget)
-            self.refused([2, 3, worth], InvalidTarget)
+            self.refused(InvalidTarget, Target, [worth])
+            self.refused(InvalidTarget, Target, [worth, 2, 3])
+            self.refused(InvalidTarget, Target, [2, worth, 3])
+            self.refused(InvalidTarget, Target, [2, 3, worth])
             # Too large as well; the modulus comes first at any place.
-            self.refused([worth, 33], InvalidTarget)
-            self.refused([33, worth], InvalidTarget)
-            self.refused([32, 2, worth], InvalidTarget)
-            self.refused([10**40, worth, 2], InvalidTarget)
+            self.refused(InvalidTarget, Target, [worth, 33])
+            self.refused(InvalidTarget, Target, [33, worth])
+            self.refused(InvalidTarget, Target, [32, 2, worth])
+            self.refused(InvalidTarget, Target, [10**40, worth, 2])
 
     def test_the_greatest_order(self):
         for moduli in ([32], [2, 16], [2, 2, 2, 2, 2], [4, 8]):
             self.assertEqual(Target(moduli).order, 32)
         for moduli in ([33], [3, 11], [34], [2, 17], [2] * 6, [32, 2], [10**5000], [2] * 300):
-            self.refused(moduli, LimitExceeded)
+            self.refused(LimitExceeded, Target, moduli)
 
     def test_values(self):
         for moduli in LISTS:

@@ -9,7 +9,7 @@ _STEP_BITS = 7
 
 def multiplied(group, first, second):
     """The coefficients of the product of two formal sums."""
-    result = [0] * group.order
+    result = [0 for entry in first]
     for row, left in zip(group.rows, first):
         if left != 0:
             for place, right in zip(row, second):

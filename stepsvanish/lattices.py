@@ -1,6 +1,7 @@
 """Lattices of integer vectors that contain every multiple of a modulus."""
 
 from stepsvanish.errors import InvalidIndex, InvalidModulus, InvalidVector, Mismatch
+from stepsvanish.numbers import bezout
 
 
 class Lattice:
@@ -65,6 +66,23 @@ class Lattice:
         return Lattice(vectors, self.width, self.modulus)
 
 
+def vanishes_on(lattice, numbers):
+    """True if each vector of the lattice has a multiple of the modulus as its product.
+
+    The product of a vector and the numbers is the sum of the products of
+    their entries.
+    """
+    for row in lattice.rows:
+        if product_sum(row, numbers) % lattice.modulus != 0:
+            return False
+    return True
+
+
+def product_sum(first, second):
+    """The sum of the products of the entries, as far as the shorter list goes."""
+    return sum([a * b for a, b in zip(first, second)])
+
+
 def _require_lengths(vectors, width):
     for vector in vectors:
         if len(vector) != width:
@@ -84,7 +102,7 @@ def _widened(rows, vector, modulus):
             continue
         row = result[place]
         radix = row[place]
-        divisor, left, right = _combined(radix, entry)
+        divisor, left, right = bezout(radix, entry)
         if divisor < radix:
             result[place] = [(left * a + right * b) % modulus for a, b in zip(row, rest)]
         # The entry becomes 0, and no vector is lost: the new row and the new
@@ -93,16 +111,6 @@ def _widened(rows, vector, modulus):
         lower = entry // divisor
         rest = [(upper * b - lower * a) % modulus for a, b in zip(row, rest)]
     return result
-
-
-def _combined(first, second):
-    """The greatest common divisor d with integers s, t: d = s first + t second."""
-    old = (first, 1, 0)
-    new = (second, 0, 1)
-    while new[0] != 0:
-        factor = old[0] // new[0]
-        old, new = new, tuple([a - factor * b for a, b in zip(old, new)])
-    return old
 
 
 def _settled(rows):

@@ -1,4 +1,4 @@
-"""Prime numbers and prime factors of small integers."""
+"""Prime numbers, prime factors of small integers, and common divisors."""
 
 
 def factored(number):
@@ -29,3 +29,13 @@ def is_prime(number):
             return False
         divisor = divisor + 1
     return True
+
+
+def bezout(first, second):
+    """The greatest common divisor d with integers s, t: d = s first + t second."""
+    old = (first, 1, 0)
+    new = (second, 0, 1)
+    while new[0] != 0:
+        factor = old[0] // new[0]
+        old, new = new, tuple([a - factor * b for a, b in zip(old, new)])
+    return old

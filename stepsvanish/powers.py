@@ -46,14 +46,29 @@ def power_lattice(group, exponent, modulus):
     return lattice
 
 
+def target_lattices(group, target, exponent):
+    """The power lattices for the exponent and each modulus of the target."""
+    known = {}
+    for modulus in target.moduli:
+        if modulus not in known:
+            known[modulus] = power_lattice(group, exponent, modulus)
+    return [known[modulus] for modulus in target.moduli]
+
+
 def power_chain(group, modulus):
     """The power lattices for 0, 1, .. up to the first that equals the next one."""
-    chain = [_whole_lattice(group, modulus)]
-    following = following_power(group, chain[0])
-    while following != chain[-1]:
-        chain.append(following)
-        following = following_power(group, following)
-    return chain
+    return list(chain_steps(group, modulus))
+
+
+def chain_steps(group, modulus):
+    """Yield the lattices of the power chain, each when it is asked for."""
+    lattice = _whole_lattice(group, modulus)
+    yield lattice
+    following = following_power(group, lattice)
+    while following != lattice:
+        lattice = following
+        yield lattice
+        following = following_power(group, lattice)
 
 
 def following_power(group, lattice):

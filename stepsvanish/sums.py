@@ -1,7 +1,7 @@
 """Formal sums of the elements of a group."""
 
 from stepsvanish.errors import InvalidVector, Mismatch
-from stepsvanish.powers import following_power, multiplied, power_lattice, shifted
+from stepsvanish.powers import chain_steps, multiplied, shifted
 
 
 class FormalSum:
@@ -68,14 +68,7 @@ def difference_product(group, members):
 
 def depth(formal_sum, modulus):
     """The greatest exponent whose power lattice contains the formal sum, or None."""
-    group = formal_sum.group
-    exponent = 0
-    lattice = power_lattice(group, exponent, modulus)
-    following = following_power(group, lattice)
-    while following != lattice:
-        if not following.contains(formal_sum.coefficients):
-            return exponent
-        exponent = exponent + 1
-        lattice = following
-        following = following_power(group, lattice)
+    for exponent, lattice in enumerate(chain_steps(formal_sum.group, modulus)):
+        if not lattice.contains(formal_sum.coefficients):
+            return exponent - 1
     return None

@@ -2,9 +2,16 @@
 builders, plain calculations with them, and a check of errors."""
 
 import unittest
+from functools import lru_cache
 from itertools import permutations as arrangements
+from itertools import product
 
 from stepsvanish.errors import StepError
+from stepsvanish.groups import Group
+from stepsvanish.maps import GroupMap
+from stepsvanish.targets import Target
+
+HUGE = 10**30
 
 # Integers that are elements of no group.
 WRONG = (-1, -(10**5000), 10**5000)
@@ -140,3 +147,83 @@ LOOP = [
     [3, 2, 4, 0, 1],
     [4, 3, 1, 2, 0],
 ]
+
+
+# Groups and moduli with few enough maps to go through all of them.
+CASES = [
+    ("one", ()),
+    ("one", (4,)),
+    ("one", (2, 3)),
+    ("two", ()),
+    ("two", (2,)),
+    ("two", (4,)),
+    ("two", (2, 4)),
+    ("two", (6,)),
+    ("three", (3,)),
+    ("three", (4,)),
+    ("three", (6,)),
+    ("three", (9,)),
+    ("three", (3, 2)),
+    ("four", (2,)),
+    ("four", (4,)),
+    ("four", (2, 2)),
+    ("klein", (2,)),
+    ("klein", (4,)),
+    ("klein", (2, 3)),
+    ("six", (2,)),
+    ("six", (3,)),
+    ("symmetric", (2,)),
+    ("symmetric", (3,)),
+    ("symmetric", (4,)),
+    ("eight", (2,)),
+    ("square", (2,)),
+    ("quaternion", (2,)),
+]
+
+
+def values_of(moduli):
+    return list(product(*[range(modulus) for modulus in moduli]))
+
+
+def raw_step(table, moduli, images, a):
+    """The images of the difference by a, without the program."""
+    return tuple(
+        tuple((v - w) % m for v, w, m in zip(images[row[a]], images[x], moduli))
+        for x, row in enumerate(table)
+    )
+
+
+@lru_cache(maxsize=None)
+def degrees_of_case(name, moduli):
+    """A dict from the images of each map to its degree, or to None."""
+    table = SMALL[name]
+    everything = list(product(values_of(moduli), repeat=len(table)))
+    after = {f: [raw_step(table, moduli, f, a) for a in range(len(table))] for f in everything}
+    known = {((0,) * len(moduli),) * len(table): -1}
+    while True:
+        # The degree is at most d if all differences have degree at most d - 1.
+        more = [f for f in everything if f not in known and all(g in known for g in after[f])]
+        if not more:
+            return {f: known.get(f) for f in everything}
+        for f in more:
+            known[f] = 1 + max(known[g] for g in after[f])
+
+
+def listed_images(name, moduli, bound):
+    """The images of all maps of degree at most the bound, ascending."""
+    found = degrees_of_case(name, moduli)
+    return sorted(f for f, d in found.items() if d is not None and d <= bound)
+
+
+def case_objects(name, moduli):
+    return Group(SMALL[name]), Target(list(moduli))
+
+
+def numbered_map(table, moduli, salt):
+    """Some map with images that are spread over the target."""
+    group, target = Group(table), Target(list(moduli))
+    parts = [
+        [x * x * (7 + salt) + 3 * x * salt + j + x * x * x * j for x in range(group.order)]
+        for j in range(len(moduli))
+    ]
+    return GroupMap.from_parts(group, target, parts)

@@ -263,6 +263,41 @@ INTERFACE = {
         "difference_product": ["group", "members"],
         "depth": ["formal_sum", "modulus"],
     },
+    "diagonal": {
+        "diagonal_form": ["table", "=modulus"],
+        "divisors": ["table"],
+        "divisor_row": ["group", "bound"],
+    },
+    "degrees": {
+        "degree": ["f"],
+        "vanishes": ["f", "count"],
+        "stepped": ["f", "members"],
+        "leading_value": ["f", "members"],
+        "witness": ["f"],
+        "integrated": ["group", "target", "pieces"],
+    },
+    "transport": {
+        "pull_back": ["f", "group", "images"],
+        "push_forward": ["f", "group", "images"],
+        "external_sum": ["f", "g"],
+        "external_product": ["f", "g"],
+    },
+    "listing": {
+        "choice_counts": ["group", "target", "bound"],
+        "number_of_maps": ["group", "target", "bound"],
+        "map_at": ["group", "target", "bound", "position"],
+        "position_of": ["f", "bound"],
+        "maps_before": ["f", "bound"],
+        "maps_up_to": ["group", "target", "bound"],
+        "map_lattice": ["group", "modulus", "bound"],
+    },
+    "growth": {
+        "greatest_degree": ["group", "target"],
+        "growth": ["group", "target"],
+        "number_with_degree": ["group", "target", "degree"],
+        "fixed_count": ["group", "target", "bound", "element"],
+        "class_count": ["group", "target", "bound"],
+    },
 }
 
 

@@ -90,7 +90,8 @@ class Reduction:
 
     def clear_column(self, at):
         """Make the entries below the pivot 0; the pivot may become smaller."""
-        for place in range(at + 1, len(self.rows)):
+        height = len(self.rows)
+        for place in range(at + 1, height):
             pivot = self.rows[at][at]
             entry = self.rows[place][at]
             if entry % pivot == 0:
@@ -132,8 +133,9 @@ def diagonal_form(table, *, modulus):
     if modulus < 1:
         raise InvalidModulus("the modulus is below 1")
     reduction = Reduction(table, modulus)
-    diagonal = [modulus] * min(len(table), len(table[0]))
-    for at in range(len(diagonal)):
+    size = min(len(table), len(table[0]))
+    diagonal = [modulus] * size
+    for at in range(size):
         found = reduction.find_pivot(at)
         if found is None:
             break

@@ -50,19 +50,20 @@ class Choices:
         parts = []
         for at, lattice in enumerate(self.lattices):
             entries = filled(lattice, self.fixed[at], digits[at :: len(self.lattices)])
-            parts.append(self._in_order(entries))
+            parts.append(in_order(self.sequence, entries))
         return GroupMap.from_parts(self.group, self.target, parts)
 
     def refuting(self, place, at):
         """The row of a given place, as a formal sum."""
-        return self._in_order(self.lattices[at].rows[place])
+        return in_order(self.sequence, self.lattices[at].rows[place])
 
-    def _in_order(self, entries):
-        """The entries in ascending order of the elements."""
-        numbers = [0] * self.group.order
-        for place, entry in zip(self.sequence, entries):
-            numbers[place] = entry
-        return numbers
+
+def in_order(sequence, entries):
+    """The entries, which belong to the elements of a sequence, in ascending order of these."""
+    numbers = [0] * len(sequence)
+    for place, entry in zip(sequence, entries):
+        numbers[place] = entry
+    return numbers
 
 
 def least_choice(lattice, place, chosen):

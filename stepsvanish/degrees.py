@@ -29,7 +29,6 @@ def vanishes_on_all(lattices, f):
 
 def stepped(f, members):
     """The map after the differences by the entries of a list, one after another."""
-    f.group.require(members)
     result = f
     for member in members:
         result = result.step(member)

@@ -1,5 +1,6 @@
 """Places: which images determine others, and which can be chosen freely."""
 
+from stepsvanish.choices import in_order
 from stepsvanish.powers import power_lattice, target_lattices
 from stepsvanish.residuals import require_prime
 
@@ -36,13 +37,7 @@ def relations(group, modulus, bound, places):
     lattice = power_lattice(group, bound + 1, modulus)
     group.require(places)
     ordered, sequence = _places_first(lattice, places)
-    found = []
-    for at in range(len(places)):
-        coefficients = [0] * group.order
-        for element, entry in zip(sequence, ordered.rows[at]):
-            coefficients[element] = entry
-        found.append(coefficients)
-    return found
+    return [in_order(sequence, row) for row in ordered.rows[: len(places)]]
 
 
 def completing_places(group, prime, bound, places):

@@ -280,6 +280,15 @@ class WitnessTest(RaisesTest):
         group = Group(power_table(cyclic_table(2), 2))
         parts = [[0, 1, 0, 1], [0, 0, 0, 1]]
         self.assertEqual(witness(GroupMap.from_parts(group, Target([2, 4]), parts)), [1, 1, 2])
+        # The chain of the modulus 3 ends long before that of the modulus 4.
+        group = Group(cyclic_table(4))
+        for moduli, parts in [
+            ([4, 3], [[1, 0, 0, 0], [2, 2, 2, 2]]),
+            ([3, 4], [[0, 0, 0, 0], [0, 1, 0, 0]]),
+        ]:
+            f = GroupMap.from_parts(group, Target(moduli), parts)
+            self.assertEqual(witness(f), [1] * degree(f))
+            self.assertGreater(degree(f), 4)
 
     def test_large_groups(self):
         for name, modulus in (("cyclic", 32), ("sixteen corners", 8), ("many twos", 32)):

@@ -46,7 +46,7 @@ class Choices:
 
     def map_with(self, position):
         """The map with exactly so many of the maps before it."""
-        digits = _digits_of(position, self.chosen_radices())
+        digits = digits_of(position, self.chosen_radices())
         parts = []
         for at, lattice in enumerate(self.lattices):
             entries = filled(lattice, self.fixed[at], digits[at :: len(self.lattices)])
@@ -86,7 +86,8 @@ def filled(lattice, chosen, digits):
     return entries
 
 
-def _digits_of(position, radices):
+def digits_of(position, radices):
+    """The digits of a position for the radices, the most significant one first."""
     digits = []
     rest = position
     for radix in reversed(radices):

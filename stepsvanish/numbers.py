@@ -31,6 +31,14 @@ def is_prime(number):
     return True
 
 
+def is_power(number, prime):
+    """True if the integer of at least 1 is a power of the prime, possibly 1."""
+    rest = number
+    while rest % prime == 0:
+        rest = rest // prime
+    return rest == 1
+
+
 def bezout(first, second):
     """The greatest common divisor d with integers s, t: d = s first + t second."""
     old = (first, 1, 0)

@@ -1,9 +1,9 @@
 """Which maps have a degree, and how they come from groups of prime power order."""
 
 from stepsvanish.building import quotient
-from stepsvanish.errors import InvalidModulus, Mismatch, NoDegree
+from stepsvanish.errors import InvalidModulus, Mismatch, NoDegree, NotPrimePower
 from stepsvanish.maps import GroupMap
-from stepsvanish.numbers import factored, is_prime
+from stepsvanish.numbers import factored, is_power, is_prime
 from stepsvanish.subgroups import left_cosets
 
 
@@ -11,6 +11,13 @@ def require_prime(prime):
     """Raise InvalidModulus unless the integer is a prime number."""
     if not is_prime(prime):
         raise InvalidModulus("the integer is not a prime number")
+
+
+def require_prime_power(order, prime):
+    """Raise an error unless the integer is a prime and the order a power of it."""
+    require_prime(prime)
+    if not is_power(order, prime):
+        raise NotPrimePower("the order is not a power of the prime number")
 
 
 def residual(group, prime):

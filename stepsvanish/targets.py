@@ -76,3 +76,10 @@ class Target:
         """The target as a group, whose elements are the positions."""
         values = self.all_values()
         return Group([[self.position(self.plus(v, w)) for w in values] for v in values])
+
+
+def only_modulus(target):
+    """The modulus of a target that has exactly one; else InvalidTarget is raised."""
+    if len(target.moduli) != 1:
+        raise InvalidTarget("the target has not exactly one modulus")
+    return target.moduli[0]

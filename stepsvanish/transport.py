@@ -1,8 +1,9 @@
 """Maps carried along homomorphisms, and maps on direct products."""
 
 from stepsvanish.building import direct_product, is_homomorphism
-from stepsvanish.errors import InvalidTarget, Mismatch, NotHomomorphism
+from stepsvanish.errors import Mismatch, NotHomomorphism
 from stepsvanish.maps import GroupMap
+from stepsvanish.targets import only_modulus
 
 
 def pull_back(f, group, images):
@@ -30,8 +31,7 @@ def external_sum(f, g):
 def external_product(f, g):
     """The map that assigns the product of f(x) and g(y) to the pair of x and y."""
     _require_same_target(f, g)
-    if len(f.target.moduli) != 1:
-        raise InvalidTarget("the target has not exactly one modulus")
+    only_modulus(f.target)
     products = [a * b for a in f.part(0) for b in g.part(0)]
     return GroupMap.from_parts(direct_product(f.group, g.group), f.target, [products])
 

@@ -181,6 +181,58 @@ CASES = [
 ]
 
 
+def upper_table(prime):
+    """Triples of integers modulo the prime, multiplied like upper triangular matrices."""
+    members = list(product(range(prime), repeat=3))
+
+    def times(x, y):
+        a, b, c = (left + right for left, right in zip(x, y))
+        return (a % prime, b % prime, (c + x[0] * y[1]) % prime)
+
+    return table_of(members, times)
+
+
+# Groups whose orders are powers of a prime number, with this number.
+PRIME_POWERS = [
+    (2, SMALL["one"]),
+    (31, SMALL["one"]),
+    (999983, SMALL["one"]),
+    (2, SMALL["two"]),
+    (3, SMALL["three"]),
+    (2, SMALL["four"]),
+    (2, SMALL["klein"]),
+    (2, SMALL["eight"]),
+    (2, SMALL["square"]),
+    (2, SMALL["quaternion"]),
+    (3, SMALL["nine"]),
+    (3, cyclic_table(9)),
+    (2, product_table(cyclic_table(4), cyclic_table(2))),
+    (2, product_table(cyclic_table(2), cyclic_table(8))),
+    (5, cyclic_table(25)),
+    (3, upper_table(3)),
+    (3, product_table(cyclic_table(9), cyclic_table(3))),
+    (31, cyclic_table(31)),
+    (2, LARGE["cyclic"]),
+    (2, LARGE["many twos"]),
+    (2, LARGE["sixteen corners"]),
+    (2, LARGE["quaternions"]),
+]
+
+# Groups and primes such that the order is no power of the prime.
+OTHER_ORDERS = [
+    (3, SMALL["two"]),
+    (2, SMALL["three"]),
+    (2, SMALL["six"]),
+    (3, SMALL["symmetric"]),
+    (2, SMALL["alternating"]),
+    (5, SMALL["eight"]),
+    (999983, SMALL["klein"]),
+    (3, LARGE["four points"]),
+]
+
+NO_PRIMES = (0, 1, -1, -2, -3, 4, 6, 9, 15, 25, 1000000, 999999, -(10**5000))
+
+
 def values_of(moduli):
     return list(product(*[range(modulus) for modulus in moduli]))
 

@@ -5,6 +5,7 @@ from samples import (
     CASES,
     HUGE,
     LARGE,
+    NO_PRIMES,
     SMALL,
     WRONG,
     RaisesTest,
@@ -27,7 +28,6 @@ from stepsvanish.powers import power_lattice
 from stepsvanish.targets import Target
 
 BOUNDS = (-1, 0, 1, 2, HUGE)
-NO_PRIMES = (0, 1, -1, -2, -3, 4, 6, 9, 1000000, 999999, -(10**5000))
 
 
 def choices_of_places(order):

@@ -4,6 +4,7 @@ from itertools import product
 from samples import (
     CASES,
     LARGE,
+    NO_PRIMES,
     SMALL,
     RaisesTest,
     case_objects,
@@ -32,7 +33,6 @@ from stepsvanish.residuals import (
 from stepsvanish.subgroups import is_normal
 from stepsvanish.targets import Target
 
-NO_PRIMES = (0, 1, -1, -2, -3, 4, 6, 9, 15, 25, 1000000, 999999, -(10**5000))
 FAR_PRIMES = (101, 65537, 999979, 999983)
 TABLES = (*SMALL.values(), *LARGE.values())
 

@@ -3,6 +3,7 @@ import unittest
 from samples import (
     HUGE,
     LARGE,
+    NO_PRIMES,
     SMALL,
     WRONG,
     RaisesTest,
@@ -27,7 +28,6 @@ from stepsvanish.weights import (
     weight_counts,
 )
 
-NO_PRIMES = (0, 1, -1, -2, -3, 4, 6, 9, 1000000, 999999, -(10**5000))
 PRIMES = (2, 3, 5, 31, 999983)
 MORE = {
     "nine twos": product_table(cyclic_table(9), cyclic_table(3)),

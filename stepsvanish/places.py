@@ -8,10 +8,16 @@ from stepsvanish.residuals import require_prime
 def closure(group, target, bound, places):
     """The elements that are determined by the places, ascending."""
     group.require(places)
-    determined = list(range(group.order))
-    for lattice in target_lattices(group, target, bound + 1):
+    lattices = target_lattices(group, target, bound + 1)
+    return determined_on(lattices, group.order, places)
+
+
+def determined_on(lattices, order, places):
+    """The elements that are determined by the places, for the lattices of a bound."""
+    determined = list(range(order))
+    for lattice in lattices:
         joined = _joined(lattice, places)
-        determined = [x for x in determined if joined.contains(_unit(group.order, x))]
+        determined = [x for x in determined if joined.contains(_unit(order, x))]
     return determined
 
 

@@ -134,8 +134,8 @@ class LanguageTest(unittest.TestCase):
             for node in ast.walk(tree):
                 if isinstance(node, ast.Name) and node.id not in own:
                     if hasattr(builtins, node.id):
-                        allowed = node.id in BUILTINS or node.id == "staticmethod"
-                        self.assertTrue(allowed, (path, node.id))
+                        allowed = {*BUILTINS, "staticmethod", "property"}
+                        self.assertIn(node.id, allowed, path)
 
     def test_barred_words(self):
         for path, tree in trees():
@@ -155,7 +155,7 @@ class LanguageTest(unittest.TestCase):
                 self.assertNotIsInstance(node, STATEMENTS, path)
                 if isinstance(node, (ast.FunctionDef, ast.ClassDef)):
                     decorators = [ast.unparse(part) for part in node.decorator_list]
-                    self.assertIn(decorators, ([], ["staticmethod"]))
+                    self.assertIn(decorators, ([], ["staticmethod"], ["property"]))
                 if isinstance(node, ast.Constant):
                     self.assertNotIsInstance(node.value, (float, complex, bytes))
                     if isinstance(node.value, str):
@@ -346,6 +346,91 @@ INTERFACE = {
         "total_bound": ["group", "modulus"],
         "moved": ["f", "coefficients"],
     },
+    "duality": {
+        "inner_product": ["f", "g"],
+        "is_orthogonal": ["f", "bound"],
+        "orthogonal_count": ["group", "modulus", "bound"],
+        "dual_bound": ["group", "prime", "bound"],
+    },
+    "pairings": {
+        "Pairing": ["left", "right", "result", "table"],
+        "Pairing.by_parts": ["target"],
+        "Pairing.__call__": ["v", "w"],
+        "Pairing.__eq__": ["other"],
+        "Pairing.__add__": ["other"],
+        "Pairing.__neg__": [],
+        "Pairing.__mul__": ["factor"],
+        "Pairing.__rmul__": ["factor"],
+        "Pairing.flipped": [],
+        "number_of_pairings": ["left", "right", "result"],
+        "all_pairings": ["left", "right", "result"],
+        "product": ["f", "g", "pairing"],
+    },
+    "composing": {
+        "compose": ["f", "g"],
+        "indicator": ["group", "target", "places", "value"],
+    },
+    "zeros": {
+        "common_zeros": ["group", "maps"],
+        "solution_counts": ["group", "maps"],
+        "value_degree": ["target", "prime", "exponent"],
+        "promised_exponent": ["group", "prime", "conditions"],
+    },
+    "coordinates": {
+        "weight_basis": ["group", "prime"],
+        "exponents_of": ["group", "prime", "element"],
+        "element_of": ["group", "prime", "exponents"],
+        "coordinate_maps": ["group", "prime"],
+        "basis_sum": ["group", "prime", "exponents"],
+    },
+    "polynomials": {
+        "coefficients_of": ["f"],
+        "from_coefficients": ["group", "prime", "coefficients"],
+        "weight_of": ["group", "prime", "exponents"],
+    },
+    "series": {
+        "binomial": ["top", "bottom"],
+        "Series": ["modulus", "coefficients"],
+        "Series.from_values": ["values", "modulus"],
+        "Series.__call__": ["x"],
+        "Series.__eq__": ["other"],
+        "Series.__add__": ["other"],
+        "Series.__sub__": ["other"],
+        "Series.__mul__": ["other"],
+        "Series.__neg__": [],
+        "Series.difference": ["by=1"],
+        "Series.running_sum": [],
+        "Series.degree": [],
+        "Series.period": [],
+    },
+    "desk": {
+        "Desk": ["group", "target", "bound"],
+        "Desk.bound": [],
+        "Desk.undo_count": [],
+        "Desk.tell": ["element", "value"],
+        "Desk.tell_all": ["pairs"],
+        "Desk.forget": ["element"],
+        "Desk.change_bound": ["bound"],
+        "Desk.undo": [],
+        "Desk.told": [],
+        "Desk.places": [],
+        "Desk.remaining": [],
+        "Desk.settled": [],
+        "Desk.image": ["element"],
+        "Desk.least": [],
+        "Desk.maps": [],
+    },
+    "worlds": {
+        "World": ["group", "target"],
+        "World.define": ["name", "f"],
+        "World.drop": ["name"],
+        "World.map_of": ["name"],
+        "World.__contains__": ["name"],
+        "World.__iter__": [],
+        "write_world": ["world"],
+        "read_world": ["text"],
+    },
+    "questions": {"run": ["text"]},
 }
 
 
@@ -367,7 +452,9 @@ class InterfaceTest(unittest.TestCase):
 
     def arguments(self, node, in_class):
         names = [part.arg for part in node.args.args]
-        if in_class and not node.decorator_list:
+        for at, value in enumerate(node.args.defaults, len(names) - len(node.args.defaults)):
+            names[at] += "=" + ast.unparse(value)
+        if in_class and "staticmethod" not in [ast.unparse(part) for part in node.decorator_list]:
             names = names[1:]
         if node.args.vararg:
             names.append("*" + node.args.vararg.arg)

@@ -1,4 +1,4 @@
-"""Checks that operators change nothing but lists and dicts that they created."""
+"""Checks that operators and properties change nothing but what they created."""
 
 import ast
 import unittest
@@ -70,13 +70,14 @@ def changes(node):
 
 
 def faults(texts):
-    """The names and rows of all that operators change, also through what they call."""
+    """The names and rows of all that operators and properties change, also by calls."""
     functions, waiting = {}, []
     for text in texts:
         for node in ast.walk(ast.parse(text)):
             if isinstance(node, ast.FunctionDef):
                 functions.setdefault(node.name, []).append(node)
-                if node.name[:2] == "__" and node.name not in FREE:
+                decorators = [ast.unparse(part) for part in node.decorator_list]
+                if (node.name[:2] == "__" and node.name not in FREE) or "property" in decorators:
                     waiting.append(node.name)
             elif isinstance(node, ast.ClassDef):
                 inits = [part for part in node.body if getattr(part, "name", "") == "__init__"]
